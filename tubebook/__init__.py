@@ -1,0 +1,1 @@
+"""Tubes and custody: see tubebook.custody."""
