@@ -2,7 +2,7 @@
 
 import random
 
-from tests.helper import Case, arm, draw, empty, joined, past, place, pour, put, rack, run, take, throw, tick, tube, use
+from tests.helper import Case, arm, draw, empty, past, place, pour, put, rack, run, take, throw, tick, tube, use
 
 
 def any_call(source, tubes):
@@ -129,4 +129,3 @@ class Promises(Case):
         calls += [arm(0, 0, 1, 0), arm(0, 0, 0, 1), arm(1, 0, 0, 1), arm(1, 0, 0, 0), put(5, 1, 0)]
         found = self.check_state(calls)
         self.assertEqual(found[-5:], [[-8], [0, 0], [-8], [0, 1], [0]])
-        self.assertEqual(len(joined(calls)), sum([len(call) for call in calls]))

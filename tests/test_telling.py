@@ -1,6 +1,6 @@
 """The calls 10 place, 11 tube, 12 past, and how pasts grow."""
 
-from tests.helper import Case, arm, draw, empty, past, place, pour, put, rack, row, run, take, throw, tick, tube, use
+from tests.helper import Case, arm, draw, empty, past, place, pour, put, rack, run, take, throw, tick, tube, use
 
 # Racks 0 warm, 1 cold, 2 frozen, 3 frozen too.
 RACKS = [rack(kind=0), rack(kind=1), rack(kind=2), rack(kind=2)]
