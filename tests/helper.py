@@ -7,11 +7,17 @@ from tubebook.custody import answers
 FAR = 10 ** 18
 MOST_CALLS = 400
 MOST_NUMBERS = 16000
+SCAN_PLAN_PRINT = (19, 20, 22)
+MOST_SCAN_PLAN_PRINT = 60
 
 
 def row(text):
     numbers = list(text.encode("ascii")) if isinstance(text, str) else list(text)
     return [len(numbers)] + numbers
+
+
+def slot_name(slot, columns):
+    return "ABCDEFGH"[slot // columns] + str(slot % columns + 1)
 
 
 def rack(rows=2, columns=3, kind=0, label="R"):
@@ -66,6 +72,54 @@ def past(t):
     return [12, t]
 
 
+def fits(t, most=0, thaws=0):
+    return [13, t, most, thaws]
+
+
+def back(t):
+    return [14, t]
+
+
+def from_tubes(t):
+    return [15, t]
+
+
+def onto(t):
+    return [16, t]
+
+
+def books(d):
+    return [17, d]
+
+
+def then(t, minute=0):
+    return [18, t, minute]
+
+
+def scan(r, sheet=""):
+    return [19, r] + row(sheet)
+
+
+def plan(r, sheet=""):
+    return [20, r] + row(sheet)
+
+
+def find(label):
+    return [21] + row(label)
+
+
+def print_rack(r):
+    return [22, r]
+
+
+def entry(e):
+    return [23, e]
+
+
+def counts():
+    return [24]
+
+
 def joined(calls):
     numbers = []
     for call in calls:
@@ -89,6 +143,7 @@ def run(calls):
     numbers = joined(calls)
     assert 1 <= len(calls) <= MOST_CALLS, len(calls)
     assert len(numbers) <= MOST_NUMBERS, len(numbers)
+    assert len([1 for call in calls if call[0] in SCAN_PLAN_PRINT]) <= MOST_SCAN_PLAN_PRINT
     found = cut(answers(numbers))
     assert len(found) == len(calls), (len(found), len(calls))
     return found
@@ -98,24 +153,21 @@ def last(calls):
     return run(calls)[-1]
 
 
-def how_many_tubes(calls):
-    found = run(calls)
-    return len([1 for call, answer in zip(calls, found) if call[0] in (1, 2) and answer[0] == 0])
-
-
 def view(calls):
-    """Calls that show, behind those calls, all that the calls 0 to 12 can show."""
-    tubes = how_many_tubes(calls) if calls else 0
-    shown = []
+    """Calls that show, behind those calls, all that can be seen (of a long list, the first of it)."""
+    minute, racks, draws, tubes, entries = last(calls + [counts()])[1:]
+    shown = [counts()]
     for t in range(tubes):
         shown += [place(t), tube(t), past(t)]
+    shown += [books(d) for d in range(draws)] + [print_rack(r) for r in range(racks)]
+    # What is kept unseen shows in what comes next.
     shown.append(tick(1))
     shown += [past(t) for t in range(tubes)]
     shown += [rack(1, 1, 0, "P"), empty(1, 0, "P"), draw(1, 1, 50000, 50000, 0, "P")]
-    # The uses go on until the book is full, and so show how many entries there were.
-    user = tubes + 1 if tubes + 2 <= 60 else 0
-    left = MOST_CALLS - len(calls) - 1 - len(shown)
-    return shown + [use(user)] * min(201, left)
+    for t in range(tubes):
+        shown += [then(t, minute), then(t, minute // 2), back(t), from_tubes(t), onto(t)]
+    shown += [entry(e) for e in reversed(range(entries))]
+    return shown[:MOST_CALLS - len(calls) - 1]
 
 
 class Case(unittest.TestCase):
@@ -123,11 +175,15 @@ class Case(unittest.TestCase):
         """The last of the calls is answered so."""
         self.assertEqual(last(calls), answer)
 
-    def check_refused(self, before, call, refusal):
-        """The call is refused so, and all that can be seen stays as it was."""
-        self.assertEqual(last(before + [call]), [refusal], call)
+    def check_told(self, before, call, answer):
+        """The call is answered so, and all that can be seen stays as it was."""
+        self.assertEqual(last(before + [call]), answer, call)
         shown = view(before)
         self.assertEqual(run(before + [call] + shown)[len(before) + 1:], run(before + shown)[len(before):], call)
+
+    def check_refused(self, before, call, refusal):
+        """The call is refused so, and all that can be seen stays as it was."""
+        self.check_told(before, call, [refusal])
 
     def check_range(self, before, make_call, least, most):
         """Both ends are taken; what lies just or far outside is refused with -1."""

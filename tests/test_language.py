@@ -122,6 +122,27 @@ class Language(unittest.TestCase):
                     self.assertEqual(node.decorator_list, [])
                     self.assertIsNone(node.args.vararg or node.args.kwarg or node.returns)
 
+    def test_is_stands_beside_none_true_and_false_alone(self):
+        for path, text, tree in self.each():
+            for node in ast.walk(tree):
+                if isinstance(node, ast.Compare) and any(isinstance(op, (ast.Is, ast.IsNot)) for op in node.ops):
+                    self.assertIn(ast.unparse(node.comparators[0]), ("None", "True", "False"))
+
+    def test_classes_hold_methods_alone(self):
+        for path, text, tree in self.each():
+            for node in ast.walk(tree):
+                if isinstance(node, ast.ClassDef):
+                    self.assertEqual(node.decorator_list + node.keywords, [])
+                    self.assertTrue(all(isinstance(part, ast.FunctionDef) for part in node.body), node.name)
+
+    def test_what_is_walked_at_once_is_not_kept(self):
+        for path, text, tree in self.each():
+            for node in ast.walk(tree):
+                kept = node.value if isinstance(node, (ast.Assign, ast.Return)) else None
+                if isinstance(kept, ast.Call):
+                    called = kept.func.attr if isinstance(kept.func, ast.Attribute) else kept.func.id
+                    self.assertNotIn(called, ("zip", "enumerate", "reversed", "range", "items", "keys", "values"))
+
     def test_names(self):
         for path, text, tree in self.each():
             for name in names_bound(tree):

@@ -2,7 +2,9 @@
 
 import random
 
-from tests.helper import Case, arm, draw, empty, past, place, pour, put, rack, run, take, throw, tick, tube, use
+from tests.helper import MOST_SCAN_PLAN_PRINT, SCAN_PLAN_PRINT, Case, arm, back, books, counts, draw, empty, entry
+from tests.helper import find, fits, from_tubes, onto, past, place, plan, pour, print_rack, put, rack, run, scan, take
+from tests.helper import then, throw, tick, tube, use
 
 
 def any_call(source, tubes):
@@ -30,15 +32,30 @@ def any_call(source, tubes):
         lambda: take(t(), source.randint(0, 1)),
         lambda: arm(r(), slot(), r(), slot()),
     ]
-    return source.choice(makers + movers * 3)()
+    # These change nothing, but a list of calls may have any of them in between.
+    tellers = [
+        lambda: source.choice([place, tube, past, back, from_tubes, onto])(t()),
+        lambda: source.choice([counts(), books(slot()), entry(t()), find("D"), fits(t(), 9, 1), then(t(), slot())]),
+        lambda: source.choice([print_rack(r()), scan(r(), any_sheet(source)), plan(r(), any_sheet(source))]),
+    ]
+    return source.choice(makers + movers * 3 + tellers * 2)()
+
+
+def any_sheet(source):
+    lines = ["A1 D", "A2 D", "B1 E", "B2 D", "C1 D", "", "#", "?"]
+    return "\n".join(source.sample(lines[:-1] if source.randint(0, 2) else lines, source.randint(0, 3)))
 
 
 def long_list(seed, length):
     source = random.Random(seed)
     calls = [rack(2, 2, kind) for kind in range(3)] + [draw(1, 1, 50, 60), draw(2, 1, 50, 60), empty(40)]
+    sheets = 0
     while len(calls) < length:
         made = len([1 for call in calls if call[0] in (1, 2)])
-        calls.append(any_call(source, min(made, 60)))
+        call = any_call(source, min(made, 60))
+        sheets += call[0] in SCAN_PLAN_PRINT
+        if sheets <= MOST_SCAN_PLAN_PRINT or call[0] not in SCAN_PLAN_PRINT:
+            calls.append(call)
     return calls
 
 
@@ -47,7 +64,8 @@ class Ledger:
 
     def __init__(self):
         self.drawn = []
-        self.gone = []
+        self.used = []
+        self.thrown = []
         self.draw_of = []
 
     def read(self, call, answer):
@@ -55,16 +73,17 @@ class Ledger:
             return
         if call[0] == 1:
             self.draw_of.append(answer[2])
-            self.drawn.append(call[3])
-            self.gone.append(0)
+            self.drawn.append(call[1:4])
+            self.used.append(0)
+            self.thrown.append(0)
         elif call[0] == 2:
             self.draw_of.append(-1)
         elif call[0] == 3:
             self.draw_of[call[2]] = self.draw_of[call[1]]
         elif call[0] == 4:
-            self.gone[self.draw_of[call[1]]] += call[3]
+            self.used[self.draw_of[call[1]]] += call[3]
         elif call[0] == 9 and answer[1] > 0:
-            self.gone[self.draw_of[call[1]]] += answer[1]
+            self.thrown[self.draw_of[call[1]]] += answer[1]
 
 
 class Promises(Case):
@@ -74,13 +93,15 @@ class Promises(Case):
         for call, answer in zip(calls, found):
             ledger.read(call, answer)
         tubes = len(ledger.draw_of)
-        shown = run(calls + [tube(t) for t in range(tubes)] + [place(t) for t in range(tubes)])[len(calls):]
-        self.check_books(ledger, shown[:tubes])
-        standing = [tuple(answer) for answer in shown[tubes:] if answer[1] == 0]
+        shown = [tube(t) for t in range(tubes)] + [place(t) for t in range(tubes)]
+        shown += [books(d) for d in range(len(ledger.drawn))]
+        shown = run(calls + shown)[len(calls):]
+        self.check_books(ledger, shown[:tubes], shown[2 * tubes:])
+        standing = [tuple(answer) for answer in shown[tubes:2 * tubes] if answer[1] == 0]
         self.assertEqual(len(standing), len(set(standing)), "two tubes in one slot")
         return found
 
-    def check_books(self, ledger, tubes):
+    def check_books(self, ledger, tubes, told):
         held = [0] * len(ledger.drawn)
         for t, answer in enumerate(tubes):
             self.assertEqual(answer[0], 0)
@@ -90,8 +111,9 @@ class Promises(Case):
                 self.assertEqual(answer[1], 0)
             else:
                 held[answer[3]] += answer[1]
-        for d, amount in enumerate(ledger.drawn):
-            self.assertEqual(held[d] + ledger.gone[d], amount, "the book does not add up")
+        for d, drawn in enumerate(ledger.drawn):
+            self.assertEqual(told[d], [0] + drawn + [held[d], ledger.used[d], ledger.thrown[d]])
+            self.assertEqual(held[d] + ledger.used[d] + ledger.thrown[d], drawn[2], "the book does not add up")
 
     def test_at_the_end_of_long_lists(self):
         seen = {}
@@ -100,9 +122,10 @@ class Promises(Case):
             for call, answer in zip(calls, self.check_state(calls)):
                 seen[call[0], answer[0]] = True
         # The lists are of use only if every change and the refusals that guard the promises come about.
-        for number in range(10):
+        for number in range(25):
             self.assertIn((number, 0), seen)
-        for refused in ((3, -4), (3, -5), (3, -7), (4, -4), (4, -5), (5, -4), (5, -8), (7, -8), (9, -4)):
+        refusals = [(3, -4), (3, -5), (3, -7), (4, -4), (4, -5), (5, -4), (5, -8), (7, -8), (9, -4), (20, -7)]
+        for refused in refusals + [(19, 1), (20, 1)]:
             self.assertIn(refused, seen)
 
     def test_behind_every_call(self):

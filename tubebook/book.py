@@ -34,12 +34,14 @@ class Draw:
 
 
 class Tube:
-    def __init__(self, label, capacity, hand):
+    def __init__(self, label, capacity, hand, minute):
         self.label = label
         self.capacity = capacity
         self.amount = 0
         self.draw = NO_DRAW
         self.place = hand_place(hand)
+        # Every place that it came to, each with its minute, since its earlier places are asked for too.
+        self.stays = [(minute, self.place)]
         self.past = NO_PAST
 
 
@@ -54,11 +56,17 @@ class Book:
     def has_tube(self, t):
         return 0 <= t < len(self.tubes)
 
+    def has_rack(self, r):
+        return 0 <= r < len(self.racks)
+
+    def has_draw(self, d):
+        return 0 <= d < len(self.draws)
+
+    def has_entry(self, e):
+        return 0 <= e < len(self.entries)
+
     def has_slot(self, r, slot):
-        if not 0 <= r < len(self.racks):
-            return False
-        rack = self.racks[r]
-        return 0 <= slot < rack.rows * rack.columns
+        return self.has_rack(r) and 0 <= slot < how_many_slots(self.racks[r])
 
     def has_all_tubes(self):
         return len(self.tubes) >= MOST_TUBES
@@ -73,6 +81,13 @@ class Book:
                 return t
         return NO_TUBE
 
+    def tubes_by_slot(self, r):
+        stands = [NO_TUBE] * how_many_slots(self.racks[r])
+        for t, tube in enumerate(self.tubes):
+            if tube.place[0] == IN_SLOT and tube.place[1] == r:
+                stands[tube.place[2]] = t
+        return stands
+
     def kind_at(self, place):
         if place[0] == IN_SLOT:
             return self.racks[place[1]].kind
@@ -82,6 +97,7 @@ class Book:
         if self.kind_at(tube.place) == FROZEN and self.kind_at(place) != FROZEN:
             tube.past = with_more(tube.past, THAWS, 1)
         tube.place = place
+        tube.stays.append((self.minute, place))
 
     def let_pass(self, minutes):
         self.minute += minutes
@@ -103,6 +119,10 @@ class Book:
 
     def write(self, kind, numbers):
         self.entries.append((self.minute, kind) + numbers)
+
+
+def how_many_slots(rack):
+    return rack.rows * rack.columns
 
 
 def is_amount(amount):

@@ -31,7 +31,7 @@ def make_draw(book, person, order, amount, capacity, hand, label):
     if book.has_all_tubes() or book.has_all_entries():
         return [NO_ROOM]
     d = book.add_draw(Draw(person, order, amount, book.minute))
-    tube = Tube(label, capacity, hand)
+    tube = Tube(label, capacity, hand, book.minute)
     tube.amount = amount
     tube.draw = d
     t = book.add_tube(tube)
@@ -50,4 +50,4 @@ def make_empty(book, capacity, hand, label):
         return [NO_LABEL]
     if book.has_all_tubes():
         return [NO_ROOM]
-    return [0, book.add_tube(Tube(label, capacity, hand))]
+    return [0, book.add_tube(Tube(label, capacity, hand, book.minute))]
